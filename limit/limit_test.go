@@ -19,3 +19,17 @@ func TestWithin(t *testing.T) {
 		}
 	}
 }
+
+func TestAll(t *testing.T) {
+	for _, x := range []struct {
+		numbers []int
+		want    bool
+	}{
+		{nil, true}, {[]int{}, true}, {[]int{1}, true}, {[]int{1, 2, 3}, true}, {[]int{3, 3}, true},
+		{[]int{0}, false}, {[]int{4}, false}, {[]int{0, 2, 2}, false}, {[]int{2, 4, 2}, false}, {[]int{2, 2, math.MinInt}, false},
+	} {
+		if got := All(x.numbers, 1, 3); got != x.want {
+			t.Errorf("All(%v, 1, 3) = %v", x.numbers, got)
+		}
+	}
+}
