@@ -5,6 +5,7 @@ import (
 	"slices"
 
 	"clockwall/api"
+	"clockwall/clone"
 	"clockwall/limit"
 )
 
@@ -39,7 +40,7 @@ func Access(c api.Cache, line int, write bool) (api.Cache, int, api.Errno) {
 	if !limit.Within(line, 1, api.MaxLine) {
 		return api.Cache{}, 0, api.ErrRange
 	}
-	after := clone(c)
+	after := clone.Cache(c)
 	cost := use(after.Sets[line%len(after.Sets)], line, write)
 	return after, cost, api.OK
 }
@@ -65,14 +66,6 @@ func empty(sets, ways int) api.Cache {
 		c.Sets[i] = make([]api.Way, ways)
 	}
 	return c
-}
-
-func clone(c api.Cache) api.Cache {
-	after := api.Cache{Sets: make([][]api.Way, len(c.Sets))}
-	for i, ways := range c.Sets {
-		after.Sets[i] = slices.Clone(ways)
-	}
-	return after
 }
 
 func checkShape(sets [][]api.Way) api.Errno {

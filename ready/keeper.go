@@ -18,26 +18,6 @@ type keeper struct {
 	number int
 }
 
-// clone makes each list on its own: no two lists of an answer may share memory.
-func clone(d api.Domain) api.Domain {
-	after := api.Domain{
-		Jobs:     slices.Clone(d.Jobs),
-		Released: slices.Clone(d.Released),
-		Next:     d.Next,
-		In:       make([]api.Ring, len(d.In)),
-		Taken:    slices.Clone(d.Taken),
-		Out:      make([][]int, len(d.Out)),
-		Events:   slices.Clone(d.Events),
-	}
-	for i, r := range d.In {
-		after.In[i] = api.Ring{Values: slices.Clone(r.Values), Lost: r.Lost}
-	}
-	for i, values := range d.Out {
-		after.Out[i] = slices.Clone(values)
-	}
-	return after
-}
-
 // tasks of the domain, by number: the others are none of its own.
 func (k *keeper) tasks() iter.Seq2[int, api.Task] {
 	return func(yield func(int, api.Task) bool) {
