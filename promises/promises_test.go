@@ -6,10 +6,12 @@ import (
 	"reflect"
 	"testing"
 
+	"clockwall/apart"
 	"clockwall/api"
 	"clockwall/cache"
 	"clockwall/clone"
 	"clockwall/config"
+	"clockwall/exec"
 	"clockwall/mail"
 	"clockwall/ready"
 	"clockwall/turn"
@@ -54,6 +56,13 @@ func arrivals() []api.Arrival {
 	return []api.Arrival{{At: 50, Line: 0}, {At: 60, Line: 1}, {At: 70, Line: 2}}
 }
 
+func script() api.Script {
+	return api.Script{Actions: [][]api.Action{actions(), actions()}, Arrivals: arrivals(), Rounds: 2}
+}
+
+// resting: a script in which nothing is done.
+func resting() api.Script { return api.Script{Actions: make([][]api.Action, 2)} }
+
 // call with arguments that it takes.
 type call struct {
 	name string
@@ -91,6 +100,14 @@ func calls() []call {
 		{"turn.Start", turn.Start, []any{machine(), 2, 1}},
 		{"turn.Open", turn.Open, []any{machine(), arrivals(), 0, domain(0), 40, 80}},
 		{"turn.Close", turn.Close, []any{machine(), []api.Domain{domain(0), domain(1)}, 0}},
+		{"exec.Check", exec.Check, []any{machine(), script()}},
+		{"exec.Run", exec.Run, []any{machine(), script()}},
+		{"exec.Run of nothing", exec.Run, []any{machine(), resting()}},
+		{"exec.Trace", exec.Trace, []any{machine(), script(), 1}},
+		{"apart.Run", apart.Run, []any{machine(), script()}},
+		{"apart.Run of nothing", apart.Run, []any{machine(), resting()}},
+		{"apart.Only", apart.Only, []any{machine(), script(), 1}},
+		{"apart.Alone", apart.Alone, []any{machine(), script(), 0}},
 		{"clone.Cache", clone.Cache, []any{filled()}},
 		{"clone.Domain", clone.Domain, []any{domain(0)}},
 	}
